@@ -1,0 +1,5 @@
+"""The numbers that are answered alone when a call is refused."""
+
+NO_TOLD_FORM = -9
+OUT_OF_RANGE = -1
+LIST_NOT_AS_TOLD = -2
