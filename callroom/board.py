@@ -1,6 +1,6 @@
 """What the calls work on: one room and one chain."""
 
-from callroom.ratio import common_divisor
+from callroom.ratio import common_divisor, lowest
 
 
 class Room:
@@ -16,7 +16,7 @@ class Room:
 
 
 class Chain:
-    """A chain of so many states; rates[i][j] is the rate from i to j, as (num, den)."""
+    """A chain of so many states; rates[i][j] is the rate from i to j, as (num, den) in lowest terms."""
 
     def __init__(self, size):
         self.size = size
@@ -50,3 +50,8 @@ def with_lines(room, lines):
 def with_takers(room, takers):
     """The same room, with so many takers."""
     return Room(room.lines, takers, room.a, room.s, room.t, room.scale)
+
+
+def set_rate(chain, i, j, num, den):
+    """The chain's rate from i to j is num/den from now on."""
+    chain.rates[i][j] = tuple(lowest(num, den))

@@ -3,6 +3,8 @@
 A fraction that is only weighed against another one stays a pair (num, den), not in lowest terms.
 """
 
+from callroom.ratio import powers
+
 
 def busy(room, i):
     """How many takers are busy with i calls in the room."""
@@ -17,14 +19,6 @@ def waiting(room, i):
 def down(room, i):
     """d(i) times the room's scale."""
     return busy(room, i) * room.s + waiting(room, i) * room.t
-
-
-def powers(base, highest):
-    """base to the power of 0, 1, and so on to highest."""
-    found = [1]
-    for step in range(highest):
-        found.append(found[step] * base)
-    return found
 
 
 def weights(room):

@@ -4,7 +4,7 @@ from callroom.board import with_lines, with_takers
 from callroom.forms import MOST_LINES, are_within
 from callroom.longrun import down, is_at_most, lost_share, unserved_share
 from callroom.longrun import weighed_busy, weighed_calls, weighed_waiting, weights
-from callroom.ratio import lowest
+from callroom.ratio import lowest, parts_of
 from callroom.refusals import LIST_NOT_AS_TOLD, OUT_OF_RANGE
 
 MOST_SHARE_DEN = 1000000000
@@ -14,11 +14,7 @@ MOST_LIST_DEN = 1000000000000000000
 def shares_answer(room):
     """Place 1: p(0) to p(lines)."""
     found = weights(room)
-    total = sum(found)
-    answer = []
-    for weight in found:
-        answer.extend(lowest(weight, total))
-    return answer
+    return parts_of(found, sum(found))
 
 
 def lost_answer(room):

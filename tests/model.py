@@ -6,7 +6,8 @@ from callroom.room import answers
 
 FAR = 10 ** 18
 
-ROOM, SHARES, LOST, MEANS, TAKERS, LINES, LOSS, BALANCE, CHAIN = range(9)
+(ROOM, SHARES, LOST, MEANS, TAKERS, LINES, LOSS, BALANCE, CHAIN,
+ RATE, STEADY, TREES, TIME, CHANCE, AFTER, EVEN, TOLD, COPY) = range(18)
 
 
 def answered(*calls):
@@ -26,6 +27,14 @@ def last(*calls):
 
 def balance(row):
     return [BALANCE, len(row)] + list(row)
+
+
+def time(i, states):
+    return [TIME, i, len(states)] + list(states)
+
+
+def chance(i, states, others):
+    return [CHANCE, i, len(states)] + list(states) + [len(others)] + list(others)
 
 
 def flat_fractions(values):

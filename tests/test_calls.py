@@ -6,8 +6,8 @@ import unittest
 
 from callroom.board import Board
 from callroom.room import answers, call_answer
-from model import (BALANCE, CHAIN, FAR, LINES, LOSS, LOST, MEANS, ROOM, SHARES, TAKERS, Model, answered, balance,
-                   flat_fractions, last)
+from model import (AFTER, BALANCE, CHAIN, CHANCE, COPY, EVEN, FAR, LINES, LOSS, LOST, MEANS, RATE, ROOM, SHARES, STEADY,
+                   TAKERS, TIME, TOLD, TREES, Model, answered, balance, chance, flat_fractions, last, time)
 
 GOOD_ROOM = [ROOM, 5, 3, 5, 2, 3, 4, 1, 7]
 
@@ -161,7 +161,8 @@ class Refusals(unittest.TestCase):
         self.refused(-9, [[]])
         for place in (-1, 18, -FAR, FAR):
             self.refused(-9, [[place]])
-        good = [GOOD_ROOM, [SHARES], [LOST], [MEANS], [TAKERS, 1, 2], [LINES, 1, 2], [LOSS, 1], [CHAIN, 3]]
+        good = [GOOD_ROOM, [SHARES], [LOST], [MEANS], [TAKERS, 1, 2], [LINES, 1, 2], [LOSS, 1], [CHAIN, 3],
+                [RATE, 0, 1, 1, 2], [STEADY], [TREES, 0], [AFTER, 0, 1], [EVEN], [TOLD], [COPY]]
         for first in good:
             self.refused(-9, [first + [1]])
             self.refused(-9, [first, []])
@@ -170,11 +171,29 @@ class Refusals(unittest.TestCase):
         self.refused(-9, [[BALANCE]])
         self.refused(-9, [[BALANCE, 1], [1, 6] * 6])
         self.refused(-9, [[BALANCE], [1, 6] * 6, []])
+        for rows in ([], [[1], []], [[1], [2]]):
+            self.refused(-9, [[TIME, 0]] + rows)
+        for rows in ([], [[1]], [[1], [2], []]):
+            self.refused(-9, [[CHANCE, 0]] + rows)
+        for first in ([], [0, 0]):
+            self.refused(-9, [[TIME] + first, [1]])
+            self.refused(-9, [[CHANCE] + first, [1], [2]])
 
     def test_the_first_told_refusal_is_answered(self):
         self.refused(-9, [[ROOM, 0, 0, 0, 0, 0, 0, -1]])
         self.refused(-9, [[CHAIN, 7], []])
         self.refused(-9, [[BALANCE, 1], [1, 0]])
+        self.refused(-9, [[RATE, 9, 9, 0]])
+        self.refused(-9, [[TIME, 9], [9], []])
+        self.refused(-9, [[CHANCE, 9], [9]])
+        self.refused(-1, [[RATE, 4, 4, 1, 1]])
+        self.refused(-4, [[RATE, 3, 3, 1, 1]])
+        self.refused(-1, [[TIME, 4], [9]])
+        self.refused(-2, [[TIME, 0], [9]])
+        self.refused(-8, [[TIME, 0], [3]])
+        self.refused(-1, [[CHANCE, 4], [3], [3]])
+        self.refused(-2, [[CHANCE, 0], [3], [3]])
+        self.refused(-8, [[CHANCE, 0], [3], []])
 
     def test_unknown_place_in_a_list(self):
         self.assertEqual(answered([SHARES], [18]), [[1, 2, 1, 2], [-9]])
@@ -186,14 +205,24 @@ class Refusals(unittest.TestCase):
 
 class Interface(unittest.TestCase):
     CALLS = (GOOD_ROOM + [SHARES, LOST, MEANS, TAKERS, 1, 4, LINES, 1, 9, LOSS, 4] + balance([1, 6] * 6)
-             + balance([]) + [CHAIN, 3, CHAIN, 9, ROOM, 1, 1, 1, 1, 1, 1, 0, 0])
+             + balance([]) + [COPY, STEADY, TREES, 3] + time(0, [5, 4]) + chance(2, [0], [5, 4]) + [AFTER, 1, 12, EVEN]
+             + [TOLD, CHAIN, 3, RATE, 1, 2, 6, 4, RATE, 0, 0, 1, 1] + time(1, [2]) + time(0, []) + chance(1, [2], [])
+             + chance(1, [], []) + [EVEN, AFTER, 1, 3, CHAIN, 9, ROOM, 1, 1, 1, 1, 1, 1, 0, 0, TOLD])
 
     def test_several_calls_in_one_list(self):
         self.assertEqual(answers([SHARES, ROOM, 2, 1, 1, 1, 1, 1, 1, 2, LOSS, 0, SHARES, CHAIN, 1, BALANCE, 0, LOSS, 2]),
                          [4, 1, 2, 1, 2, 1, 0, 2, 1, 1, 6, 3, 8, 3, 8, 1, 4, 1, -1, 1, -2, 2, 1, 5])
 
+    def test_several_calls_of_the_chain_in_one_list(self):
+        self.assertEqual(answers([RATE, 0, 1, 4, 2, TIME, 0, 1, 1, TIME, 0, 0, CHANCE, 0, 1, 1, 0, CHANCE, 0, 0, 1, 1,
+                                  CHANCE, 1, 1, 1, 1, 0, CHANCE, 0, 0, 0, TREES, 1, COPY, STEADY, EVEN, AFTER, 0, 1]),
+                         [1, 0, 2, 1, 2, 1, -8, 2, 1, 1, 2, 0, 1, 2, 1, 1, 1, -8, 2, 2, 1, 1, 0, 4, 1, 2, 1, 2, 1, 1,
+                          4, 0, 1, 1, 1])
+
     def test_lists_are_not_taken_for_calls(self):
         self.assertEqual(answered(balance([0, 1, 8, 9]), balance([1, 2, 1, 2]), [LOSS, 0]), [[1, 0], [0], [1, 1]])
+        self.assertEqual(answered(time(0, [8, 3]), chance(0, [8, 3], [17]), chance(0, [0], [1]), [TREES, 0]),
+                         [[-2], [-2], [1, 1], [0, 1]])
 
     def test_two_hundred_calls(self):
         calls = []
